@@ -1,0 +1,1 @@
+"""Handlerims: words of exchanges, their rims and what a round costs."""

@@ -1,0 +1,77 @@
+"""Each name of the interface is defined in the file under which it is listed, with its parameters."""
+
+import ast
+import os
+import unittest
+
+import handlerims
+
+FOLDER = os.path.dirname(handlerims.__file__)
+
+FUNCTIONS = {
+    "checks": {"is_integer": "value", "is_within": "value least most", "is_letter": "value", "is_name": "value",
+               "is_listed": "value", "are_integers": "value", "first_twice": "values", "common_divisor": "one other",
+               "lowest": "top bottom"},
+    "papers": {"fixed": "value"},
+    "rings": {"turn_to": "one other", "least_turned": "word", "root_of": "word", "go_past": "one other",
+              "common_root": "one other"},
+    "renamed": {"renamed": "word pairs", "put": "word kind other"},
+    "balance": {"balance": "word", "is_balanced": "word"},
+    "sewings": {"all_sewings": "rims", "census": "rims", "many_sewings": "rims"},
+    "exchanged": {"exchanged": "sewing place other", "way": "sewing other", "way_between": "sewing other",
+                  "with_pair": "sewing place letter", "without_pair": "sewing place"},
+    "check_sewings": {"shows_way": "sewing other value"},
+    "handles": {"handles_of": "word", "rounds_of_exchange": "times", "most_for_rounds": "handles times"},
+    "parted": {"parted": "word"},
+    "ring_lists": {"balanced_rings": "kinds letters", "rings_with": "kinds letters handles"},
+    "check_handles": {"shows_handles": "word value", "shows_parted": "word value"},
+}
+CLASSES = {
+    "papers": {"Paper": {"__init__": "self word *parts", "__eq__": "self other"},
+               "Denial": {"__init__": "self word *parts", "__eq__": "self other"}},
+    "words": {"Word": {"__init__": "self letters", "__len__": "self", "__eq__": "self other", "__str__": "self",
+                       "contrary": "self", "shortened": "self", "shortened_round": "self", "turned": "self by",
+                       "then": "self other", "times": "self number", "many_of": "self letter",
+                       "exchange": "one other", "read": "text"}},
+    "rings": {"Root": {"__init__": "self root here there"}, "NoRoot": {"__init__": "self"}},
+    "rims": {"Rims": {"__init__": "self words", "__eq__": "self other", "__str__": "self", "next": "self place",
+                      "rim_of": "self place", "read": "text"}},
+    "sewings": {"Sewing": {"__init__": "self rims mates", "__eq__": "self other"}},
+    "exchanged": {"Way": {"__init__": "self pairs"}},
+    "handles": {"Handles": {"__init__": "self number ring mates"}},
+    "parted": {"Parted": {"__init__": "self turn x y z"}, "NotParted": {"__init__": "self"}},
+}
+
+
+def body_of(name):
+    with open(os.path.join(FOLDER, name + ".py"), encoding="ascii") as text:
+        return ast.parse(text.read()).body
+
+
+def parameters(function):
+    told = function.args
+    names = [one.arg for one in told.args]
+    return " ".join(names + (["*" + told.vararg.arg] if told.vararg else []))
+
+
+def defined(body, kind):
+    return {one.name: one for one in body if isinstance(one, kind)}
+
+
+class Interface(unittest.TestCase):
+    def test_functions(self):
+        for file, told in FUNCTIONS.items():
+            found = defined(body_of(file), ast.FunctionDef)
+            for name, names in told.items():
+                with self.subTest(file=file, name=name):
+                    self.assertEqual(parameters(found[name]), names)
+                    self.assertEqual(found[name].args.defaults, [])
+
+    def test_classes_and_their_own_methods(self):
+        for file, told in CLASSES.items():
+            found = defined(body_of(file), ast.ClassDef)
+            for name, methods in told.items():
+                own = defined(found[name].body, ast.FunctionDef)
+                for method, names in methods.items():
+                    with self.subTest(file=file, name=name, method=method):
+                        self.assertEqual(parameters(own[method]), names)
