@@ -43,3 +43,13 @@ class Draws:
         cuts = sorted(self.mixed(range(1, len(letters)))[:words - 1])
         ends = [0] + cuts + [len(letters)]
         return Rims([Word(letters[ends[at]:ends[at + 1]]) for at in range(words)])
+
+    def mates(self, rims):
+        """Mates of the places of rims, each as often as any other."""
+        mates = [None] * rims.many
+        for place, letter in enumerate(rims.letters):
+            if letter > 0:
+                free = [at for at in range(rims.many) if rims.letters[at] == -letter and mates[at] is None]
+                mates[place] = self.one_of(free)
+                mates[mates[place]] = place
+        return mates
