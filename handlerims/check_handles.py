@@ -41,6 +41,4 @@ def shows_parted(word, value):
     ring = ring_to_part(word)
     if isinstance(value, Parted) and is_called(value, "Parted"):
         return is_parting(ring, value)
-    if isinstance(value, NotParted) and is_called(value, "NotParted"):
-        return first_parting(ring) == value
-    return False
+    return isinstance(value, NotParted) and first_parting(ring) == value

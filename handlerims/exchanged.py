@@ -3,7 +3,7 @@
 from handlerims.errors import Misfit, Twice
 from handlerims.needs import need_letter
 from handlerims.papers import Paper
-from handlerims.rims import need_few_places, need_place, rims_from
+from handlerims.rims import need_place, rims_from
 from handlerims.sewings import Sewing, need_sewing
 
 
@@ -70,7 +70,6 @@ def with_pair(sewing, place, letter):
     rims = sewing.rims
     need_place(rims, place)
     need_letter(letter)
-    need_few_places(rims.many + 2)
     home = rims.homes[place]
     letters = rims.letters[:place] + (letter, -letter) + rims.letters[place:]
     homes = rims.homes[:place] + (home, home) + rims.homes[place:]

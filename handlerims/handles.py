@@ -3,8 +3,8 @@
 from handlerims.balance import need_balanced
 from handlerims.needs import need_within
 from handlerims.papers import Paper
-from handlerims.rims import Rims, need_few_places
-from handlerims.sewings import all_sewings, need_few_sewings
+from handlerims.rims import Rims
+from handlerims.sewings import all_sewings
 from handlerims.words import need_word
 
 
@@ -16,21 +16,14 @@ class Handles(Paper):
         self.number, self.ring, self.mates = self.parts
 
 
-def ring_to_sew(word):
-    """The word shortened round: what is told if it has no sewings that can be gone through."""
+def handles_of(word):
+    """The Handles of a balanced word, with the first mates that have so few."""
     need_word(word, "word")
     need_balanced(word.letters)
     ring = word.shortened_round()
-    need_few_places(ring.length)
-    need_few_sewings(ring.letters)
-    return ring
-
-
-def handles_of(word):
-    """The Handles of a balanced word, with the first mates that have so few."""
-    ring = ring_to_sew(word)
     if ring.length == 0:
         return Handles(0, ring, ())
+    # That there are too many letters, or too many sewings, is told by the rims and by all_sewings.
     best = min(all_sewings(Rims([ring])), key=lambda sewing: sewing.handles)
     return Handles(best.handles, ring, best.mates)
 

@@ -4,7 +4,7 @@ from handlerims.checks import MOST_KIND, first_twice, is_listed, is_within
 from handlerims.errors import BadNumber, NoLetter, Twice
 from handlerims.letters import contrary_letters
 from handlerims.needs import need_kind, need_letter
-from handlerims.words import Word, need_few_letters, need_word
+from handlerims.words import Word, need_word
 
 
 def need_pairs(pairs):
@@ -36,8 +36,6 @@ def put(word, kind, other):
     need_word(word, "word")
     need_kind(kind, "kind")
     need_word(other, "other")
-    many = word.many_of(kind) + word.many_of(-kind)
-    need_few_letters(word.length + many * (other.length - 1))
     worths = {kind: other.letters, -kind: contrary_letters(other.letters)}
     letters = []
     for letter in word.letters:

@@ -23,12 +23,6 @@ def need_place(rims, value):
         raise NoPlace(value)
 
 
-def need_few_places(many):
-    """Raise TooMany if rims cannot have so many places."""
-    if many > MOST_PLACES:
-        raise TooMany("letters", MOST_PLACES)
-
-
 def is_filled(value):
     """Whether the value is a Word that is not empty."""
     return isinstance(value, Word) and value.length > 0
@@ -43,7 +37,8 @@ class Rims:
         if not all([is_filled(word) for word in words]):
             raise BadWord("words")
         letters = [letter for word in words for letter in word.letters]
-        need_few_places(len(letters))
+        if len(letters) > MOST_PLACES:
+            raise TooMany("letters", MOST_PLACES)
         need_balanced(letters)
         self.words = tuple(words)
         self.letters = tuple(letters)

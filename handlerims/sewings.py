@@ -75,18 +75,13 @@ class Sewing:
         return isinstance(other, Sewing) and self.rims == other.rims and self.mates == other.mates
 
 
-def sewings_of_letters(letters):
-    """How many sewings there are of balanced letters, however these stand in rims."""
+def many_sewings(rims):
+    """How many sewings the rims have, however many."""
+    need_rims(rims, "rims")
     many = 1
-    for kind in kinds_of(letters):
-        many *= factorial(letters.count(kind))
+    for kind in kinds_of(rims.letters):
+        many *= factorial(rims.letters.count(kind))
     return many
-
-
-def need_few_sewings(letters):
-    """Raise TooMany if balanced letters have more sewings than are gone through."""
-    if sewings_of_letters(letters) > MOST_SEWINGS:
-        raise TooMany("sewings", MOST_SEWINGS)
 
 
 def fill_mates(letters, mates, found):
@@ -105,7 +100,8 @@ def fill_mates(letters, mates, found):
 def all_sewings(rims):
     """All sewings of the rims, ascending by their mates."""
     need_rims(rims, "rims")
-    need_few_sewings(rims.letters)
+    if many_sewings(rims) > MOST_SEWINGS:
+        raise TooMany("sewings", MOST_SEWINGS)
     found = []
     fill_mates(rims.letters, [None] * rims.many, found)
     return tuple([Sewing(rims, mates) for mates in found])
@@ -115,9 +111,3 @@ def census(rims):
     """The pairs of a cost and of how many sewings of the rims have it, ascending."""
     costs = [sewing.cost for sewing in all_sewings(rims)]
     return tuple([(cost, costs.count(cost)) for cost in sorted(set(costs))])
-
-
-def many_sewings(rims):
-    """How many sewings the rims have, however many."""
-    need_rims(rims, "rims")
-    return sewings_of_letters(rims.letters)

@@ -44,8 +44,8 @@ class ShowsHandles(Case):
             self.assertIs(shows_handles(LOOP, Handles(number, LOOP, MATES)), False)
         for ring in (LOOP.turned(1), LOOP.contrary(), EMPTY, None, LOOP.letters, str(LOOP), Rims([LOOP]), True):
             self.assertIs(shows_handles(LOOP, Handles(1, ring, MATES)), False)
-        for mates in ((3, 2, 1, 0), (2, 3, 0), (2, 3, 0, 1, 4), (2, 3, 0, True), (2, 3, False, 1), (2.0, 3, 0, 1), None, (),
-                      "2301", (2, 3, 0, -3), (2, 3, 0, 10 ** 90), 5, ((2, 3, 0, 1),), Sewing(Rims([LOOP]), MATES)):
+        for mates in ((3, 2, 1, 0), (2, 3, 0), (2, 3, 0, 1, 4), (2, 3, 0, True), (2, 3, False, 1), (2.0, 3, 0, 1), None,
+                      (), "2301", (2, 3, 0, -3), (2, 3, 0, 10 ** 90), 5, ((2, 3, 0, 1),), Sewing(Rims([LOOP]), MATES)):
             self.assertIs(shows_handles(LOOP, Handles(1, LOOP, mates)), False)
         self.assertIs(shows_handles(Word([3]).then(LOOP).then(Word([-3])),
                                     Handles(1, Word([3]).then(LOOP).then(Word([-3])), (5, 3, 4, 1, 2, 0))), False)
@@ -62,13 +62,15 @@ class ShowsHandles(Case):
     def test_other_values(self):
         class Mine(Handles):
             pass
-        for value in WRONG + (1, LOOP, (1, LOOP, MATES), Paper("handles", 1, LOOP, MATES), Mine(1, LOOP, MATES), NoRoot(),
-                              Parted(1, LOOP, MATES, 0), Denial("handles", 1, LOOP, MATES), NotParted()):
+        stranger = type("Handles", (Paper,), {})("handles", 1, LOOP, MATES)
+        for value in WRONG + (stranger, 1, LOOP, (1, LOOP, MATES), Paper("handles", 1, LOOP, MATES), NoRoot(),
+                              Mine(1, LOOP, MATES), Parted(1, LOOP, MATES, 0), Denial("handles", 1, LOOP, MATES),
+                              NotParted()):
             self.assertIs(shows_handles(LOOP, value), False)
 
     def test_errors_for_any_value(self):
         for value in (None, Handles(0, EMPTY, ()), WRONG[19]):
-            self.wrong_among(lambda word: shows_handles(word, value), lambda word: BadWord("word"), (1, [1, -1], "a a'"))
+            self.wrong_among(lambda word: shows_handles(word, value), lambda word: BadWord("word"), (1, [1], "a a'"))
             self.told(Unbalanced(2), shows_handles, Word([1, 2, -1]), value)
             self.told(TooMany("letters", 24), shows_handles, LOOP.times(7), value)
             self.told(TooMany("sewings", 720), shows_handles, LOOP.times(5), value)
@@ -76,8 +78,9 @@ class ShowsHandles(Case):
 
 class ShowsParted(Case):
     def test_right_ones(self):
-        for value in (Parted(0, A, B, EMPTY), Parted(0, EMPTY, A, B), Parted(0, A, EMPTY, B), Parted(1, B, EMPTY, Word([-1])),
-                      Parted(2, Word([-1]), Word([-2]), EMPTY), Parted(turn=3, x=EMPTY, y=Word([-2]), z=A)):
+        for value in (Parted(0, A, B, EMPTY), Parted(0, EMPTY, A, B), Parted(0, A, EMPTY, B),
+                      Parted(1, B, EMPTY, Word([-1])), Parted(2, Word([-1]), Word([-2]), EMPTY),
+                      Parted(turn=3, x=EMPTY, y=Word([-2]), z=A)):
             self.assertIs(shows_parted(LOOP, value), True)
         self.assertIs(shows_parted(word=LOOP.times(2), value=NotParted()), True)
         for word in (EMPTY, Word([1, -1])):
@@ -99,8 +102,9 @@ class ShowsParted(Case):
                     self.assertIs(shows_parted(word, Parted(*parts)), parts in told)
 
     def test_parts_bent(self):
-        for value in (Parted(0, A, B, A), Parted(4, A, B, EMPTY), Parted(-4, A, B, EMPTY), Parted(-1, B, EMPTY, Word([-1])),
-                      Parted(False, A, B, EMPTY), Parted(True, B, EMPTY, Word([-1])), Parted(0.0, A, B, EMPTY),
+        for value in (Parted(0, A, B, A), Parted(4, A, B, EMPTY), Parted(-4, A, B, EMPTY),
+                      Parted(-1, B, EMPTY, Word([-1])), Parted(False, A, B, EMPTY),
+                      Parted(True, B, EMPTY, Word([-1])), Parted(0.0, A, B, EMPTY),
                       Parted(0, (1,), B, EMPTY), Parted(0, A, B, ()), Parted(0, A, B, None), Parted(None, A, B, EMPTY),
                       Parted("0", A, B, EMPTY), Parted(0, "a", B, EMPTY), Parted(0, Word([1, 2]), EMPTY, EMPTY),
                       Parted(0, Word([1] * 500), Word([1] * 500), Word([1] * 500)), Parted(10 ** 90, A, B, EMPTY)):
@@ -124,10 +128,13 @@ class ShowsParted(Case):
 
         class MyDenial(NotParted):
             pass
-        for value in WRONG + (1, LOOP, (0, A, B, EMPTY), Paper("parted", 0, A, B, EMPTY), Mine(0, A, B, EMPTY), NoRoot(),
-                              Handles(1, LOOP, MATES)):
+        stranger = type("Parted", (Paper,), {})("parted", 0, A, B, EMPTY)
+        for value in WRONG + (stranger, 1, LOOP, (0, A, B, EMPTY), Paper("parted", 0, A, B, EMPTY), NoRoot(),
+                              Mine(0, A, B, EMPTY), Handles(1, LOOP, MATES)):
             self.assertIs(shows_parted(LOOP, value), False)
-        for value in WRONG + (Denial("notparted"), MyDenial(), NoRoot(), Paper("notparted"), Parted(0, A, B, EMPTY)):
+        denial = type("NotParted", (Denial,), {})("notparted")
+        for value in WRONG + (denial, Denial("notparted"), MyDenial(), NoRoot(), Paper("notparted"),
+                              Parted(0, A, B, EMPTY)):
             self.assertIs(shows_parted(LOOP.times(2), value), False)
 
     def test_errors_for_any_value(self):

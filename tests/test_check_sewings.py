@@ -22,9 +22,11 @@ class ShowsWay(Case):
     def test_parts_bent(self):
         for pairs in ([(0, 4)], [(1, 5)], [], [(0, 4), (1, 5), (1, 5)], [(0, 4), (1, 1)], [(0, 4), (1, 5), (0, 0)],
                       [(0, 4), (1, 5), (0, 1), (0, 1)], [(0, 4), (1, 3)], [(0, 4), (1, 8)], [(0, 4), (1, -3)],
-                      [(0, 4), (True, 5)], [(False, 4), (1, 5)], [(0, 4), (1.0, 5)], [(0, 4), (1, 5, 5)], [(0, 4), (1,)],
-                      [(0, 4), 5], [(0, 4), "15"], [(0, 4), None], [(0, 4), ()], [(0, 4), ((1,), 5)], 5, None, "",
-                      {0: 4, 1: 5}, {(0, 4), (1, 5)}, [(0, 4), {1, 5}], [(0, 4), (1, 10 ** 90)], [[(0, 4), (1, 5)]]):
+                      [(0, 4), (True, 5)], [(False, 4), (1, 5)], [(0, 4), (1.0, 5)], [(0, 4), (1, 5, 5)],
+                      [(0, 4), (1,)], [(0, 4), 5], [(0, 4), "15"], [(0, 4), None], [(0, 4), ()], [(0, 4), ((1,), 5)],
+                      5, None, "",
+                      {0: 4, 1: 5}, {(0, 4), (1, 5)}, [(2, 6), (3, -1)], [(2, 6), (-1, 3)], [(0, 4), (8, 5)],
+                      [(0, 4), {1, 5}], [(0, 4), (1, 10 ** 90)], [[(0, 4), (1, 5)]]):
             self.assertIs(shows_way(NEAR, FAR, Way(pairs)), False)
 
     def test_any_parts(self):
@@ -38,8 +40,10 @@ class ShowsWay(Case):
     def test_other_values(self):
         class Mine(Way):
             pass
+        stranger = type("Way", (Paper,), {})("way", ())
         pairs = [(0, 4), (1, 5)]
-        for value in WRONG + (1, pairs, Paper("way", pairs), Denial("way", pairs), Mine(pairs), Handles(0, 0, 0),
+        for value in (stranger,) + WRONG + (1, pairs, Paper("way", pairs), Denial("way", pairs), Mine(pairs),
+                                          Handles(0, 0, 0),
                               Odd(), Agreeing(), NEAR, TWICE):
             self.assertIs(shows_way(NEAR, FAR, value), False)
 

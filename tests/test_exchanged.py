@@ -64,7 +64,8 @@ class Ways(Case):
         self.assertEqual(way(sewing=FAR, other=NEAR).pairs, ((0, 4), (1, 5)))
         self.assertEqual(way(NEAR, NEAR), Way(()))
         three = rims("a a a / a' a' a'")
-        self.assertEqual(way(Sewing(three, [3, 4, 5, 0, 1, 2]), Sewing(three, [4, 5, 3, 2, 0, 1])).pairs, ((0, 1), (1, 2)))
+        one, other = Sewing(three, [3, 4, 5, 0, 1, 2]), Sewing(three, [4, 5, 3, 2, 0, 1])
+        self.assertEqual(way(one, other).pairs, ((0, 1), (1, 2)))
 
     def test_each_place_gets_its_mate_from_the_one_that_has_it(self):
         for draws, sewing in drawn_sewings(36, 150):

@@ -88,7 +88,8 @@ class Rounds(Case):
     def test_most_for_rounds(self):
         for handles, times, most in ((1, 1, 1), (1, 2, 2), (1, 3, 2), (1, 4, 3), (2, 1, 2), (2, 3, 5), (3, 4, 11)):
             self.assertEqual(most_for_rounds(handles, times), most)
-        self.assertEqual([most_for_rounds(1, times) for times in range(1, 30)], list(map(rounds_of_exchange, range(1, 30))))
+        for times in range(1, 30):
+            self.assertEqual(most_for_rounds(1, times), rounds_of_exchange(times))
         self.assertEqual(most_for_rounds(times=2, handles=10 ** 90), 2 * 10 ** 90)
 
     def test_wrong_numbers(self):

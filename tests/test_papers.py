@@ -44,6 +44,12 @@ class Papers(unittest.TestCase):
         self.assertFalse(Mine([(0, 4)]) == Way([(0, 4)]))
         self.assertFalse(Way([(0, 4)]) == Mine([(0, 4)]))
 
+    def test_papers_are_not_equal_to_classes_that_are_only_called_so(self):
+        for made in (Paper("paper"), Denial("denial"), Way(())):
+            stranger = type(type(made).__name__, (), {"word": made.word, "parts": made.parts})()
+            self.assertIs(made == stranger, False)
+            self.assertIs(made == type(type(made).__name__, (), {})(), False)
+
     def test_papers_are_not_equal_to_what_agrees_with_all(self):
         self.assertIs(Paper("n") == unittest.mock.ANY, False)
 

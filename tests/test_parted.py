@@ -35,8 +35,8 @@ class PartedWords(Case):
         self.assertTrue(0 <= found.turn < max(1, len(ring)))
 
     def test_parted(self):
-        for text in ("a b a' b'", "a b c a' b' c'", "a b b a' b' b'", "c a b a' b' c'", "a' b c a c' b'", "a a b a' b' a'",
-                     "b c c' a' b' a", "a b c d e c' b' a' e' d'", "a a a b a' b' a' a'",
+        for text in ("a b a' b'", "a b c a' b' c'", "a b b a' b' b'", "c a b a' b' c'", "a' b c a c' b'",
+                     "a a b a' b' a'", "b c c' a' b' a", "a b c d e c' b' a' e' d'", "a a a b a' b' a' a'",
                      "a b b a' b a b' a' b' a b' a'"):
             word = Word.read(text)
             self.holds(word, parted(word))

@@ -24,7 +24,8 @@ class Renamed(Case):
             back = {}
             for one, other in zip(word.letters, found.letters):
                 # What is put for a letter is one letter, and its contrary for the contrary.
-                self.assertEqual(back.setdefault(abs(one), other * (1 if one > 0 else -1)), other * (1 if one > 0 else -1))
+                forward = other if one > 0 else -other
+                self.assertEqual(back.setdefault(abs(one), forward), forward)
 
     def test_the_word_and_the_pairs_stay(self):
         word, pairs = Word([1, 2]), [[1, 2], [2, 1]]

@@ -44,6 +44,6 @@ class RingLists(Case):
 
     def test_wrong_numbers(self):
         for call in (balanced_rings, lambda kinds, letters: rings_with(kinds, letters, None)):
-            self.wrong_among(lambda value: call(value, None), lambda value: BadNumber("kinds"), (0, 3, -1, 10 ** 90, [1]))
-            self.wrong_among(lambda value: call(2, value), lambda value: BadNumber("letters"), (0, 9, -1, 10 ** 90, [1]))
-        self.wrong_among(lambda value: rings_with(2, 8, value), lambda value: BadNumber("handles"), (-1, -10 ** 90, [1]))
+            self.wrong_among(lambda value: call(value, None), lambda value: BadNumber("kinds"), (0, 3, -1, 10 ** 90))
+            self.wrong_among(lambda value: call(2, value), lambda value: BadNumber("letters"), (0, 9, -1, 10 ** 90))
+        self.wrong_among(lambda value: rings_with(2, 8, value), lambda value: BadNumber("handles"), (-1, -10 ** 90))

@@ -93,8 +93,9 @@ class Past(Case):
     def test_common_root(self):
         for one, other, root, here, there in (
                 ("a", "a", "a", 1, 1), ("a a", "a' a' a'", "a", 2, -3), ("a' a'", "a", "a'", 2, -1),
-                ("-", "-", "-", 0, 0), ("a a'", "b b'", "-", 0, 0), ("a b", "-", "a b", 1, 0), ("-", "b b b", "b", 0, 3),
-                ("a a'", "b a b b' a b'", "b a b'", 0, 2), ("a b b a'", "a b' a' c c'", "a b a'", 2, -1),
+                ("-", "-", "-", 0, 0), ("a a'", "b b'", "-", 0, 0), ("a b", "-", "a b", 1, 0),
+                ("-", "b b b", "b", 0, 3), ("a a'", "b a b b' a b'", "b a b'", 0, 2),
+                ("a b b a'", "a b' a' c c'", "a b a'", 2, -1),
                 ("a b a b", "b' a' b' a' b' a'", "a b", 2, -3), ("a b c b' a'", "a b c c b' a'", "a b c b' a'", 1, 2)):
             found = common_root(*words(one, other))
             self.assertIsInstance(found, Root)

@@ -61,7 +61,8 @@ class Made(Case):
         for value in WRONG + (1, [2, 3, 0], [2, 3, 0, 1, 1], [0, 1, 2, 3], [3, 2, 1, 0], [2, 3, 2, 1], [2, 2, 0, 1],
                               [2, 3, 0, -3], [-2, 3, 0, 1], [2, 3, 0, 4], [2, 3, False, True], [2, 3, 0, True],
                               [2, 3, 0, 1.0], [2, 3, 0, None], [2, 3, 0, "1"], "2301", {0: 2}, [2, 10 ** 90, 0, 1],
-                              [[2, 3, 0, 1]], {2, 3, 0, 1}, [1, 0, 3, 2], Sewing(LOOP, [2, 3, 0, 1])):
+                              [[2, 3, 0, 1]], {2, 3, 0, 1}, [4, 3, 0, 1], [2, -1, 0, 1], [-1, 3, 0, 1],
+                              [1, 0, 3, 2], Sewing(LOOP, [2, 3, 0, 1])):
             self.told(BadSewing("mates"), Sewing, LOOP, value)
         # 1 has the mate 2, and this one another.
         self.told(BadSewing("mates"), Sewing, rims("a a a' a'"), [2, 2, 1, 0])

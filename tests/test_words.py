@@ -65,7 +65,8 @@ class Changed(Case):
 
     def test_shortened(self):
         for text, answer in (("-", "-"), ("a", "a"), ("a a'", "-"), ("a b b' a' a", "a"), ("a b c c' b' a'", "-"),
-                             ("a b a' b'", "a b a' b'"), ("a a' a", "a"), ("b a a' c c' b' d", "d"), ("a' a a b", "a b")):
+                             ("a b a' b'", "a b a' b'"), ("a a' a", "a"), ("b a a' c c' b' d", "d"),
+                             ("a' a a b", "a b")):
             self.assertEqual(str(Word.read(text).shortened()), answer)
 
     def test_shortened_round(self):
