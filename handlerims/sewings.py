@@ -99,7 +99,6 @@ def fill_mates(letters, mates, found):
 
 def all_sewings(rims):
     """All sewings of the rims, ascending by their mates."""
-    need_rims(rims, "rims")
     if many_sewings(rims) > MOST_SEWINGS:
         raise TooMany("sewings", MOST_SEWINGS)
     found = []

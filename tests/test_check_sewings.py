@@ -29,6 +29,11 @@ class ShowsWay(Case):
                       [(0, 4), {1, 5}], [(0, 4), (1, 10 ** 90)], [[(0, 4), (1, 5)]]):
             self.assertIs(shows_way(NEAR, FAR, Way(pairs)), False)
 
+    def test_places_counted_from_the_end(self):
+        # Each would lead back to where it began if -1 stood for 7.
+        for pairs in ([(-1, 3), (7, 3)], [(3, -1), (7, 3)]):
+            self.assertIs(shows_way(NEAR, NEAR, Way(pairs)), False)
+
     def test_any_parts(self):
         for value in WRONG:
             empty = isinstance(value, (list, tuple)) and len(value) == 0
