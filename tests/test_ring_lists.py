@@ -1,7 +1,9 @@
 import itertools
+import time
 
 from handlerims.errors import BadNumber
 from handlerims.ring_lists import balanced_rings, rings_with
+from handlerims.rings import least_turned
 from handlerims.words import Word
 from tests import sewn
 from tests.cases import Case
@@ -41,6 +43,27 @@ class RingLists(Case):
                                                if sewn.fewest_ring_handles(ring.letters) == handles])
         self.assertEqual(rings_with(2, 8, 10 ** 90), ())
         self.assertEqual(rings_with(1, 8, 0), ())
+
+    def test_each_ring_is_its_own_least_turned_form(self):
+        for letters in (4, 6, 8):
+            rings = balanced_rings(2, letters)
+            self.assertEqual([least_turned(ring) for ring in rings], list(rings))
+            self.assertTrue(all(ring.is_short_round and ring.kinds == (1, 2) for ring in rings))
+            self.assertEqual(sorted(ring.letters for ring in rings), [ring.letters for ring in rings])
+
+    def test_some_hundred_calls_take_a_short_time(self):
+        begun = time.perf_counter()
+        for _ in range(100):
+            for letters in (6, 7, 8):
+                balanced_rings(2, letters)
+                rings_with(2, letters, 1)
+                rings_with(2, letters, 2)
+        self.assertLess(time.perf_counter() - begun, 3)
+
+    def test_a_list_is_made_anew_each_time(self):
+        for _ in range(2):
+            self.assertEqual([len(rings_with(2, 8, handles)) for handles in range(4)], [0, 26, 2, 0])
+            self.assertEqual(len(balanced_rings(2, 8)), 28)
 
     def test_wrong_numbers(self):
         for call in (balanced_rings, lambda kinds, letters: rings_with(kinds, letters, None)):
