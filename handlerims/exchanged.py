@@ -1,6 +1,7 @@
 """Sewings that come of other ones: mates exchanged, two letters put in or taken out."""
 
 from handlerims.errors import Misfit, Twice
+from handlerims.mating import mates_among
 from handlerims.needs import need_letter
 from handlerims.papers import Paper
 from handlerims.rims import need_place, rims_from
@@ -93,4 +94,4 @@ def without_pair(sewing, place):
     kept = [one for one in range(rims.many) if one not in (place, behind)]
     letters = [rims.letters[one] for one in kept]
     homes = [rims.homes[one] for one in kept]
-    return Sewing(rims_from(letters, homes), [kept.index(mates[one]) for one in kept])
+    return Sewing(rims_from(letters, homes), mates_among(mates, kept))

@@ -2,7 +2,7 @@
 
 from handlerims.checks import MOST_KIND, first_twice, is_listed, is_within
 from handlerims.errors import BadNumber, NoLetter, Twice
-from handlerims.letters import contrary_letters
+from handlerims.letters import replaced_letters, worths_of
 from handlerims.needs import need_kind, need_letter
 from handlerims.words import Word, need_word
 
@@ -36,8 +36,4 @@ def put(word, kind, other):
     need_word(word, "word")
     need_kind(kind, "kind")
     need_word(other, "other")
-    worths = {kind: other.letters, -kind: contrary_letters(other.letters)}
-    letters = []
-    for letter in word.letters:
-        letters.extend(worths.get(letter, (letter,)))
-    return Word(letters)
+    return Word(replaced_letters(word.letters, worths_of(kind, other.letters)))

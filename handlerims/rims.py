@@ -5,7 +5,7 @@ from handlerims.checks import is_listed, is_within
 from handlerims.errors import BadRims, BadText, BadWord, NoPlace, TooMany
 from handlerims.letters import balance_of
 from handlerims.texts import items_of, letter_of
-from handlerims.words import Word
+from handlerims.words import Word, is_filled
 
 MOST_WORDS = 4
 MOST_PLACES = 24
@@ -23,9 +23,10 @@ def need_place(rims, value):
         raise NoPlace(value)
 
 
-def is_filled(value):
-    """Whether the value is a Word that is not empty."""
-    return isinstance(value, Word) and value.length > 0
+def need_few_places(many):
+    """Raise TooMany if rims cannot have so many letters."""
+    if many > MOST_PLACES:
+        raise TooMany("letters", MOST_PLACES)
 
 
 class Rims:
@@ -37,8 +38,7 @@ class Rims:
         if not all([is_filled(word) for word in words]):
             raise BadWord("words")
         letters = [letter for word in words for letter in word.letters]
-        if len(letters) > MOST_PLACES:
-            raise TooMany("letters", MOST_PLACES)
+        need_few_places(len(letters))
         need_balanced(letters)
         self.words = tuple(words)
         self.letters = tuple(letters)

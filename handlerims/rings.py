@@ -1,9 +1,9 @@
 """Words read round, their roots, and words that go past one another."""
 
 from handlerims.errors import BadWord
-from handlerims.letters import contrary_letters, rounded_letters, shortened_letters, turned_letters
+from handlerims.letters import contrary_letters, ends_and_ring, least_start, shortened_letters, turned_letters
 from handlerims.papers import Denial, Paper
-from handlerims.words import Word, need_word
+from handlerims.words import Word, is_filled, need_word
 
 
 class Root(Paper):
@@ -40,7 +40,7 @@ def turn_to(one, other):
 def least_turned(word):
     """The least of all turned forms of the word, as it stands."""
     need_word(word, "word")
-    return Word(min([turned_letters(word.letters, turn) for turn in range(max(1, word.length))]))
+    return word.turned(least_start(word.letters))
 
 
 def root_letters(letters):
@@ -53,7 +53,7 @@ def root_letters(letters):
 
 def root_of(word):
     """The shortest word of which this is some times, letter by letter, and how many times."""
-    if not isinstance(word, Word) or word.length == 0:
+    if not is_filled(word):
         raise BadWord("word")
     root = root_letters(word.letters)
     return (Word(root), word.length // len(root))
@@ -69,9 +69,8 @@ def go_past(one, other):
 
 def short_root(letters):
     """Of short letters, not none: the ends put around the root, and the root of what is between."""
-    inner = rounded_letters(letters)
-    skipped = (len(letters) - len(inner)) // 2
-    return (letters[:skipped], root_letters(inner))
+    ends, inner = ends_and_ring(letters)
+    return (ends, root_letters(inner))
 
 
 def times_of_root(letters, ends, inner):

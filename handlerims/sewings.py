@@ -2,9 +2,9 @@
 
 from math import factorial
 
-from handlerims.checks import are_integers
-from handlerims.errors import BadSewing, TooMany
+from handlerims.errors import BadSewing, Misfit, TooMany
 from handlerims.letters import kinds_of
+from handlerims.mating import all_mates, are_paired, joined
 from handlerims.rims import need_rims
 
 MOST_SEWINGS = 720
@@ -16,16 +16,18 @@ def need_sewing(value, part):
         raise BadSewing(part)
 
 
+def need_ring_sewing(value, part):
+    """Raise what is told unless the value is a Sewing of one rim."""
+    need_sewing(value, part)
+    if len(value.rims.words) != 1:
+        raise Misfit("rims")
+
+
 def are_mates(letters, value):
     """Whether the value is a list with a mate for each place of these letters."""
-    if not are_integers(value) or len(value) != len(letters):
+    if not are_paired(value, len(letters)):
         return False
-    for place, mate in enumerate(value):
-        if not 0 <= mate < len(letters):
-            return False
-        if letters[mate] != -letters[place] or value[mate] != place:
-            return False
-    return True
+    return all([letters[mate] == -letters[place] for place, mate in enumerate(value)])
 
 
 def corners_of(rims, mates):
@@ -46,15 +48,7 @@ def corners_of(rims, mates):
 
 def pieces_of(rims, mates):
     """The numbers of the rims of each piece, the pieces ascending."""
-    # Each rim is marked with the least rim known to be of its piece.
-    marks = list(range(len(rims.words)))
-    for place, mate in enumerate(mates):
-        one, other = marks[rims.homes[place]], marks[rims.homes[mate]]
-        marks = [min(one, other) if mark in (one, other) else mark for mark in marks]
-    pieces = []
-    for least in sorted(set(marks)):
-        pieces.append(tuple([rim for rim, mark in enumerate(marks) if mark == least]))
-    return tuple(pieces)
+    return joined(len(rims.words), [(rims.homes[place], rims.homes[mate]) for place, mate in enumerate(mates)])
 
 
 class Sewing:
@@ -84,26 +78,13 @@ def many_sewings(rims):
     return many
 
 
-def fill_mates(letters, mates, found):
-    """Add to found, ascending, all ways to give mates to the places that have None."""
-    if None not in mates:
-        found.append(tuple(mates))
-        return
-    place = mates.index(None)
-    for mate, letter in enumerate(letters):
-        if mates[mate] is None and letter == -letters[place]:
-            more = list(mates)
-            more[place], more[mate] = mate, place
-            fill_mates(letters, more, found)
-
-
 def all_sewings(rims):
     """All sewings of the rims, ascending by their mates."""
     if many_sewings(rims) > MOST_SEWINGS:
         raise TooMany("sewings", MOST_SEWINGS)
-    found = []
-    fill_mates(rims.letters, [None] * rims.many, found)
-    return tuple([Sewing(rims, mates) for mates in found])
+    letters = rims.letters
+    partners = [[mate for mate in range(rims.many) if letters[mate] == -letter] for letter in letters]
+    return tuple([Sewing(rims, mates) for mates in all_mates(partners)])
 
 
 def census(rims):

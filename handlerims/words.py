@@ -2,7 +2,8 @@
 
 from handlerims.checks import is_letter, is_listed
 from handlerims.errors import BadText, BadWord, TooMany
-from handlerims.letters import contrary_letters, kinds_of, rounded_letters, shortened_letters, turned_letters
+from handlerims.letters import (contrary_letters, exchange_letters, kinds_of, rounded_letters, shortened_letters,
+                                turned_letters)
 from handlerims.needs import need_integer, need_letter
 from handlerims.texts import items_of, letter_of, letter_text
 
@@ -13,6 +14,11 @@ def need_word(value, part):
     """Raise BadWord unless the value is a Word."""
     if not isinstance(value, Word):
         raise BadWord(part)
+
+
+def is_filled(value):
+    """Whether the value is a Word that is not empty."""
+    return isinstance(value, Word) and value.length > 0
 
 
 def need_few_letters(many):
@@ -87,8 +93,7 @@ class Word:
         """The one, the other, the contrary of the one, that of the other."""
         need_word(one, "one")
         need_word(other, "other")
-        back = contrary_letters(one.letters) + contrary_letters(other.letters)
-        return Word(one.letters + other.letters + back)
+        return Word(exchange_letters(one.letters, other.letters))
 
     @staticmethod
     def read(text):

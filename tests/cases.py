@@ -40,6 +40,9 @@ class Agreeing:
 WRONG = (None, True, False, 1.0, 2.5, "", "a", "1", b"a", [], (), {}, [None], ["a"], [True], [[1]], {1: 1}, range(3),
          object(), Odd(), Agreeing(), len, int, Exception("x"), iter([1]), 1j, float("nan"), float("inf"))
 
+# Those of them that are no empty lists: an empty list is a list of anything.
+NO_LISTS = tuple(value for value in WRONG if not isinstance(value, (list, tuple)) or len(value) > 0)
+
 
 class Case(unittest.TestCase):
     """A test case that also tells what an error keeps."""

@@ -1,34 +1,40 @@
 """The examples of the document, as they stand there, in tests/examples.txt."""
 
+import importlib
 import os
 import unittest
 
-from handlerims import (balance, check_handles, check_sewings, checks, errors, exchanged, handles, papers, parted,
-                        renamed, rims, ring_lists, rings, sewings, words)
 from handlerims.errors import HandleError
 
-MODULES = (errors, checks, papers, words, rings, renamed, balance, rims, sewings, exchanged, check_sewings, handles,
-           parted, ring_lists, check_handles)
 EXAMPLES = os.path.join(os.path.dirname(__file__), "examples.txt")
+
+
+def lines_of_examples():
+    with open(EXAMPLES, encoding="ascii") as lines:
+        return [line.rstrip("\n") for line in lines]
+
+
+def modules():
+    """The modules of the package under which examples stand, and that of the errors."""
+    names = [line[len("# handlerims/"):-len(".py")] for line in lines_of_examples() if line.startswith("# ")]
+    return [importlib.import_module("handlerims." + name) for name in ["errors"] + names]
 
 
 def examples():
     """Triples: the number of the line, what is typed, what is answered (None where nothing is)."""
     rows = []
-    with open(EXAMPLES, encoding="ascii") as lines:
-        for number, line in enumerate(lines, 1):
-            line = line.rstrip("\n")
-            if line.startswith(">>> "):
-                rows.append([number, line[4:], None])
-            elif line and not line.startswith("# "):
-                rows[-1][2] = line
+    for number, line in enumerate(lines_of_examples(), 1):
+        if line.startswith(">>> "):
+            rows.append([number, line[4:], None])
+        elif line and not line.startswith("# "):
+            rows[-1][2] = line
     return rows
 
 
 class Examples(unittest.TestCase):
     def setUp(self):
         self.names = {}
-        for module in MODULES:
+        for module in modules():
             self.names.update({name: worth for name, worth in vars(module).items() if not name.startswith("_")})
 
     def raised(self, typed, told):
@@ -40,7 +46,7 @@ class Examples(unittest.TestCase):
 
     def test_each_example_answers_as_told(self):
         rows = examples()
-        self.assertEqual(len(rows), 45)
+        self.assertEqual(len(rows), 69)
         for number, typed, answer in rows:
             with self.subTest(line=number):
                 if answer is None:

@@ -25,6 +25,15 @@ FUNCTIONS = {
     "parted": {"parted": "word"},
     "ring_lists": {"balanced_rings": "kinds letters", "rings_with": "kinds letters handles"},
     "check_handles": {"shows_handles": "word value", "shows_parted": "word value"},
+    "spellings": {"product_of": "pairs", "undone": "spelling", "moved": "spelling word",
+                  "put_in": "spelling kind word"},
+    "spelled": {"spelled": "sewing", "spelled_word": "word", "rounds_spelled": "one other times"},
+    "tightened": {"sewing_of": "pairs", "tightened": "sewing"},
+    "check_spellings": {"shows_spelling": "word value", "shows_fewest": "word value"},
+    "cheapest": {"cheapest": "rims", "in_one": "rims"},
+    "tubes": {"tube": "one other", "tubes_of": "rims"},
+    "cutting": {"banded": "one other kind", "banded_sewing": "sewing kind", "unbanded": "sewing place",
+                "cut": "sewing place other"},
 }
 CLASSES = {
     "papers": {"Paper": {"__init__": "self word *parts", "__eq__": "self other"},
@@ -40,6 +49,9 @@ CLASSES = {
     "exchanged": {"Way": {"__init__": "self pairs"}},
     "handles": {"Handles": {"__init__": "self number ring mates"}},
     "parted": {"Parted": {"__init__": "self turn x y z"}, "NotParted": {"__init__": "self"}},
+    "spellings": {"Spelling": {"__init__": "self pairs"}},
+    "cheapest": {"Cheapest": {"__init__": "self cost mates"}, "InOne": {"__init__": "self handles mates"}},
+    "tubes": {"Tube": {"__init__": "self turn"}, "NoTube": {"__init__": "self"}},
 }
 
 

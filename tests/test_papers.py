@@ -1,17 +1,21 @@
 import unittest
 import unittest.mock
 
+from handlerims.cheapest import Cheapest, InOne
 from handlerims.exchanged import Way
 from handlerims.handles import Handles
 from handlerims.papers import Denial, Paper, fixed
 from handlerims.parted import NotParted, Parted
 from handlerims.rings import NoRoot, Root
+from handlerims.spellings import Spelling
+from handlerims.tubes import NoTube, Tube
 from handlerims.words import Word
 from tests.cases import WRONG
 
 CLASSES = ((Root, "root", ("root", "here", "there")), (NoRoot, "noroot", ()), (Way, "way", ("pairs",)),
            (Handles, "handles", ("number", "ring", "mates")), (Parted, "parted", ("turn", "x", "y", "z")),
-           (NotParted, "notparted", ()))
+           (NotParted, "notparted", ()), (Spelling, "spelling", ("pairs",)), (Cheapest, "cheapest", ("cost", "mates")),
+           (InOne, "inone", ("handles", "mates")), (Tube, "tube", ("turn",)), (NoTube, "notube", ()))
 
 
 class Papers(unittest.TestCase):
