@@ -9,7 +9,9 @@ from handlerims.words import need_word
 def shows_spelling(word, value):
     """Whether the value is a right Spelling that spells the word, whatever its number of pairs."""
     need_word(word, "word")
-    return is_right_spelling(value) and product_letters(value.pairs) == shortened_letters(word.letters)
+    if not is_right_spelling(value):
+        return False
+    return shortened_letters(product_letters(value.pairs)) == shortened_letters(word.letters)
 
 
 def shows_fewest(word, value):

@@ -5,7 +5,7 @@ from handlerims.errors import BadPaper, BadWord
 from handlerims.letters import contrary_letters, exchange_letters, replaced_letters, shortened_letters, worths_of
 from handlerims.needs import need_kind
 from handlerims.papers import Paper, is_called
-from handlerims.words import Word, need_word
+from handlerims.words import Word, need_word, word_of
 
 MOST_PAIRS = 12
 
@@ -46,22 +46,22 @@ def need_spelling(value, part):
 
 
 def product_letters(pairs):
-    """The letters, however many, that are left of the exchanges of these pairs of Words."""
+    """The letters, however many, of the exchanges of these pairs of Words, one behind the other."""
     letters = []
     for one, other in pairs:
         letters.extend(exchange_letters(one.letters, other.letters))
-    return shortened_letters(letters)
+    return letters
 
 
 def product_of(pairs):
     """The exchanges of the pairs, one behind the other, shortened."""
     need_word_pairs(pairs, "pairs")
-    return Word(product_letters(pairs))
+    return word_of(product_letters(pairs))
 
 
 def spelling_of(rows):
     """The Spelling of pairs of tuples of letters, which it shortens."""
-    return Spelling([[Word(shortened_letters(letters)) for letters in row] for row in rows])
+    return Spelling([[word_of(letters) for letters in row] for row in rows])
 
 
 def undone(spelling):

@@ -27,6 +27,13 @@ def need_few_letters(many):
         raise TooMany("letters", MOST_LETTERS)
 
 
+def word_of(letters):
+    """The Word of what is left of these letters, however many, when they are shortened."""
+    left = shortened_letters(letters)
+    need_few_letters(len(left))
+    return Word(left)
+
+
 class Word:
     """0 to 500 letters, one behind the other."""
 
