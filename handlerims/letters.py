@@ -83,6 +83,11 @@ def kinds_of(letters):
     return tuple(sorted({abs(letter) for letter in letters}))
 
 
+def counts_of(letters):
+    """The pairs of a kind and of how often it stands in the letters, contraries counted too, the kinds ascending."""
+    return [(kind, letters.count(kind) + letters.count(-kind)) for kind in kinds_of(letters)]
+
+
 def balance_of(letters):
     """The pairs (kind, forward less backward), the kinds ascending, none with 0."""
     pairs = [(kind, letters.count(kind) - letters.count(-kind)) for kind in kinds_of(letters)]

@@ -41,11 +41,17 @@ def mates_among(mates, places):
 
 def joined(many, pairs):
     """The ascending tuples, ascending, of the numbers below many that the pairs join, also by way of others."""
-    # Each number is marked with the least one known to be joined to it.
-    marks = list(range(many))
+    # Each number leads to a lesser one that is joined to it, or to itself where none is known.
+    above = list(range(many))
     for one, other in pairs:
-        here, there = marks[one], marks[other]
-        if here != there:
-            least = min(here, there)
-            marks = [least if mark in (here, there) else mark for mark in marks]
-    return tuple([tuple([at for at in range(many) if marks[at] == least]) for least in sorted(set(marks))])
+        while above[one] != one:
+            one = above[one]
+        while above[other] != other:
+            other = above[other]
+        above[max(one, other)] = min(one, other)
+    rows = {}
+    for at in range(many):
+        # Lesser ones lead straight to the least one by now.
+        above[at] = above[above[at]]
+        rows.setdefault(above[at], []).append(at)
+    return tuple([tuple(row) for row in rows.values()])

@@ -37,6 +37,22 @@ class Draws:
         half = [1 + self.below(kinds) for _ in range(bands)]
         return self.mixed(half + [-kind for kind in half])
 
+    def even(self, bands, kinds):
+        """Letters, twice as many as bands, no kind of which is odd."""
+        half = [1 + self.below(kinds) for _ in range(bands)]
+        return [kind * self.one_of([1, -1]) for kind in self.mixed(half + half)]
+
+    def crossed_mates(self, letters):
+        """Mates of these places, of their kinds, each as often as any other."""
+        mates = [None] * len(letters)
+        for place, letter in enumerate(letters):
+            if mates[place] is None:
+                free = [at for at in range(place + 1, len(letters))
+                        if abs(letters[at]) == abs(letter) and mates[at] is None]
+                mates[place] = self.one_of(free)
+                mates[mates[place]] = place
+        return mates
+
     def rims(self, words, bands, kinds):
         """Rims of so many words, with at least as many letters as words."""
         letters = self.balanced(bands, kinds)

@@ -1,4 +1,5 @@
-"""Second ways of reckoning sewings: by mates put in all orders, by joined points, and by crossing bands."""
+"""Second ways of reckoning sewings, plain and crossed: by mates put in all orders, by joined points, and by bands
+that lie across one another."""
 
 from itertools import permutations, product
 
@@ -81,3 +82,58 @@ def ring_handles(mates):
 
 def fewest_ring_handles(letters):
     return min(ring_handles(mates) for mates in all_mates(letters))
+
+
+def pairings(places):
+    """All ways to pair the places two by two: the last one with each of the others."""
+    if not places:
+        return [[]]
+    last, others = places[-1], places[:-1]
+    found = []
+    for at, other in enumerate(others):
+        found += [[(other, last)] + rest for rest in pairings(others[:at] + others[at + 1:])]
+    return found
+
+
+def all_crossed_mates(letters):
+    """The mates of all crossed sewings of a ring, ascending."""
+    kinds = sorted({abs(letter) for letter in letters})
+    choices = []
+    for kind in kinds:
+        places = [place for place, letter in enumerate(letters) if abs(letter) == kind]
+        choices.append(pairings(places) if len(places) % 2 == 0 else [])
+    found = []
+    for choice in product(*choices):
+        mates = [None] * len(letters)
+        for one, other in [pair for pairs in choice for pair in pairs]:
+            mates[one], mates[other] = other, one
+        found.append(tuple(mates))
+    return sorted(found)
+
+
+def crossed_corners(letters, mates):
+    """The points in classes: the begin and the end of each letter, joined as its mate runs."""
+    many = len(letters)
+    pairs = []
+    for place, mate in enumerate(mates):
+        here, there = (place, (place + 1) % many), (mate, (mate + 1) % many)
+        pairs += zip(here, there if letters[place] == letters[mate] else there[::-1])
+    return joined(many, pairs)
+
+
+def crossed_squares(letters, mates):
+    """The squares of a crossed sewing: the rank of the table of bands across, alike mates across themselves, too."""
+    bands = [(place, mate) for place, mate in enumerate(mates) if place < mate]
+    alike = [letters[place] == letters[mate] for place, mate in bands]
+    rows = []
+    for at, (one, end) in enumerate(bands):
+        row = sum(1 << other for other, (two, last) in enumerate(bands)
+                  if other != at and (one < two < end) != (one < last < end))
+        rows.append(row | (1 << at if alike[at] else 0))
+    rank = rank_by_two(rows)
+    return rank if any(alike) or rank == 0 else rank + 1
+
+
+def fewest_squares(letters):
+    """The squares of letters shortened round, of all crossed sewings made another way."""
+    return min(crossed_squares(letters, mates) for mates in all_crossed_mates(letters)) if letters else 0

@@ -46,7 +46,7 @@ class Examples(unittest.TestCase):
 
     def test_each_example_answers_as_told(self):
         rows = examples()
-        self.assertEqual(len(rows), 69)
+        self.assertEqual(len(rows), 96)
         for number, typed, answer in rows:
             with self.subTest(line=number):
                 if answer is None:

@@ -32,6 +32,15 @@ FUNCTIONS = {
     "check_spellings": {"shows_spelling": "word value", "shows_fewest": "word value"},
     "cheapest": {"cheapest": "rims", "in_one": "rims"},
     "tubes": {"tube": "one other", "tubes_of": "rims"},
+    "check_cheapest": {"shows_cheapest": "rims value", "shows_in_one": "rims value"},
+    "crossed": {"many_crossed": "word", "all_crossed": "word", "crossed_census": "word"},
+    "squares": {"squares_of": "word", "most_squares": "handles", "as_square": "word", "odd_kinds": "word"},
+    "square_spelled": {"square_product": "words", "square_spelled": "sewing", "square_spelled_word": "word",
+                       "three_squares": "one other", "squared_ahead": "square one other"},
+    "check_squares": {"shows_squares": "word value", "shows_square_spelling": "word value"},
+    "bags": {"is_bag": "rims walks", "bag_of": "sewing"},
+    "bag_changes": {"added": "one other", "times": "bag number", "lowest_bag": "bag", "parted_walks": "bag"},
+    "built": {"bag_of_rounds": "sewing rims words", "built": "bag"},
     "cutting": {"banded": "one other kind", "banded_sewing": "sewing kind", "unbanded": "sewing place",
                 "cut": "sewing place other"},
 }
@@ -52,6 +61,11 @@ CLASSES = {
     "spellings": {"Spelling": {"__init__": "self pairs"}},
     "cheapest": {"Cheapest": {"__init__": "self cost mates"}, "InOne": {"__init__": "self handles mates"}},
     "tubes": {"Tube": {"__init__": "self turn"}, "NoTube": {"__init__": "self"}},
+    "crossed": {"CrossSewing": {"__init__": "self word mates", "__eq__": "self other"}},
+    "squares": {"Squares": {"__init__": "self number ring mates"}, "Odd": {"__init__": "self kind"}},
+    "square_spelled": {"SquareSpelling": {"__init__": "self words"}},
+    "bags": {"Bag": {"__init__": "self rims walks", "__eq__": "self other"}},
+    "built": {"Built": {"__init__": "self sewing words"}},
 }
 
 

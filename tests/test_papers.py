@@ -1,6 +1,7 @@
 import unittest
 import unittest.mock
 
+from handlerims.built import Built
 from handlerims.cheapest import Cheapest, InOne
 from handlerims.exchanged import Way
 from handlerims.handles import Handles
@@ -8,6 +9,8 @@ from handlerims.papers import Denial, Paper, fixed
 from handlerims.parted import NotParted, Parted
 from handlerims.rings import NoRoot, Root
 from handlerims.spellings import Spelling
+from handlerims.square_spelled import SquareSpelling
+from handlerims.squares import Odd, Squares
 from handlerims.tubes import NoTube, Tube
 from handlerims.words import Word
 from tests.cases import WRONG
@@ -15,7 +18,10 @@ from tests.cases import WRONG
 CLASSES = ((Root, "root", ("root", "here", "there")), (NoRoot, "noroot", ()), (Way, "way", ("pairs",)),
            (Handles, "handles", ("number", "ring", "mates")), (Parted, "parted", ("turn", "x", "y", "z")),
            (NotParted, "notparted", ()), (Spelling, "spelling", ("pairs",)), (Cheapest, "cheapest", ("cost", "mates")),
-           (InOne, "inone", ("handles", "mates")), (Tube, "tube", ("turn",)), (NoTube, "notube", ()))
+           (InOne, "inone", ("handles", "mates")), (Tube, "tube", ("turn",)), (NoTube, "notube", ()),
+           (Squares, "squares", ("number", "ring", "mates")), (Odd, "odd", ("kind",)),
+           (SquareSpelling, "squarespelling", ("words",)), (Built, "built", ("sewing", "words")))
+DENIALS = ("noroot", "notparted", "notube", "odd")
 
 
 class Papers(unittest.TestCase):
@@ -84,7 +90,7 @@ class PapersOfTheClasses(unittest.TestCase):
     def test_below_paper_and_denial(self):
         for made, word, _ in CLASSES:
             self.assertTrue(issubclass(made, Paper))
-            self.assertIs(issubclass(made, Denial), word.startswith("no"))
+            self.assertIs(issubclass(made, Denial), word in DENIALS)
 
     def test_parts_by_place_and_by_name(self):
         for made, word, names in CLASSES:
@@ -93,7 +99,7 @@ class PapersOfTheClasses(unittest.TestCase):
                 self.assertEqual(paper.word, word)
                 self.assertEqual(paper.parts, tuple((at, (at,)) for at, _ in enumerate(names)))
                 self.assertEqual([getattr(paper, name) for name in names], list(paper.parts))
-                self.assertIs(bool(paper), not word.startswith("no"))
+                self.assertIs(bool(paper), word not in DENIALS)
 
     def test_any_parts(self):
         for made, _, names in CLASSES:

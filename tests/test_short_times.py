@@ -1,0 +1,82 @@
+"""Answers come in a short time, also at the bounds that are told."""
+
+import time
+import unittest
+
+from handlerims.bag_changes import parted_walks, times
+from handlerims.bags import Bag, bag_of
+from handlerims.built import built
+from handlerims.check_cheapest import shows_cheapest, shows_in_one
+from handlerims.check_spellings import shows_fewest, shows_spelling
+from handlerims.check_squares import shows_square_spelling, shows_squares
+from handlerims.cheapest import cheapest, in_one
+from handlerims.crossed import all_crossed, crossed_census, many_crossed
+from handlerims.errors import TooMany
+from handlerims.handles import handles_of
+from handlerims.rims import Rims
+from handlerims.sewings import Sewing, all_sewings
+from handlerims.spelled import rounds_spelled, spelled, spelled_word
+from handlerims.spellings import Spelling, moved, product_of, put_in, undone
+from handlerims.square_spelled import SquareSpelling, square_product, square_spelled_word, squared_ahead
+from handlerims.squares import as_square, squares_of
+from handlerims.tightened import sewing_of, tightened
+from handlerims.tubes import tube
+from handlerims.words import Word
+
+A, B = Word([1]), Word([2])
+# 720 sewings of 24 letters, and 945 crossed sewings of 16.
+MOST = Word([1] * 6 + [2, 3, 4, 5, 6, 7] + [-1] * 6 + [-2, -3, -4, -5, -6, -7])
+MOST_CROSSED = Word([1, 2, 3] * 4 + [1] * 4)
+LONG = [Word([1] * 500), Word([2] * 500)]
+LOOP = Rims([Word([1, 2, -1, -2])])
+
+
+class ShortTimes(unittest.TestCase):
+    def quick(self, call):
+        """Check that the call takes less than two seconds, whether or not there are too many of something."""
+        begun = time.perf_counter()
+        try:
+            call()
+        except TooMany:
+            pass
+        self.assertLess(time.perf_counter() - begun, 2)
+
+    def test_of_sewings(self):
+        rims = Rims([MOST])
+        for call in (cheapest, in_one, all_sewings):
+            self.quick(lambda: call(rims))
+        for call in (handles_of, spelled_word):
+            self.quick(lambda: call(MOST))
+        self.quick(lambda: shows_cheapest(rims, None))
+        self.quick(lambda: shows_in_one(rims, None))
+        self.quick(lambda: shows_fewest(MOST, Spelling([])))
+
+    def test_of_spellings(self):
+        pairs = [tuple(LONG), tuple(LONG[::-1])] * 6
+        back = Word([2] * 125 + [1] * 250 + [-2] * 125)
+        for call in (lambda: product_of(pairs), lambda: product_of(pairs[:1] * 12), lambda: undone(Spelling(pairs)),
+                     lambda: moved(Spelling(pairs), LONG[0]), lambda: put_in(Spelling(pairs), 1, LONG[1]),
+                     lambda: put_in(Spelling([(back, back)] * 12), 1, Word([-2] * 125 + [1] + [2] * 125)),
+                     lambda: shows_spelling(LONG[0], Spelling(pairs)), lambda: sewing_of(pairs),
+                     lambda: rounds_spelled(Word([1, 2, 3, 4, 5]), Word([6, 7, 8, 9, 10]), 12),
+                     lambda: tightened(sewing_of([(A, B), (B, A)] * 3)), lambda: spelled(sewing_of([(A, B)] * 6)),
+                     lambda: tube(LONG[0], LONG[0]), lambda: tube(LONG[0], LONG[0].contrary())):
+            self.quick(call)
+
+    def test_of_squares(self):
+        for call in (all_crossed, crossed_census, squares_of, square_spelled_word):
+            self.quick(lambda: call(MOST_CROSSED))
+        self.assertEqual(len(all_crossed(MOST_CROSSED)), 945)
+        for call in (lambda: shows_squares(MOST_CROSSED, None), lambda: square_product(LONG * 6),
+                     lambda: shows_square_spelling(A, SquareSpelling(LONG * 6)), lambda: many_crossed(Word([1, -1] * 250)),
+                     lambda: squared_ahead(LONG[0], LONG[1], LONG[0]), lambda: as_square(LONG[0])):
+            self.quick(call)
+
+    def test_of_bags(self):
+        large = Rims([Word([1] * 12 + [-1] * 12)])
+        bag = bag_of(Sewing(large, list(range(23, -1, -1))))
+        long = [([3, 2, 1, 0] * 2000, 999999)]
+        for call in (lambda: bag_of(Sewing(large, list(range(23, -1, -1)))), lambda: built(bag),
+                     lambda: Bag(LOOP, long), lambda: parted_walks(Bag(LOOP, long)), lambda: times(bag, 999999),
+                     lambda: built(times(bag, 999999))):
+            self.quick(call)
