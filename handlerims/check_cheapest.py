@@ -11,9 +11,9 @@ def shows_cheapest(rims, value):
     found = cheapest(rims)
     if not isinstance(value, Cheapest) or not is_called(value, "Cheapest"):
         return False
-    if not is_integer(value.cost) or value.cost != found.cost:
+    if not is_integer(value.cost) or not are_mates(rims.letters, value.mates):
         return False
-    return are_mates(rims.letters, value.mates) and Sewing(rims, value.mates).cost == found.cost
+    return value.cost == found.cost == Sewing(rims, value.mates).cost
 
 
 def shows_in_one(rims, value):
@@ -21,6 +21,6 @@ def shows_in_one(rims, value):
     found = in_one(rims)
     if not isinstance(value, InOne) or not is_called(value, "InOne"):
         return False
-    if not is_integer(value.handles) or value.handles != found.handles:
+    if not is_integer(value.handles) or not are_mates(rims.letters, value.mates):
         return False
-    return are_mates(rims.letters, value.mates) and Sewing(rims, value.mates).handles == found.handles
+    return value.handles == found.handles == Sewing(rims, value.mates).handles

@@ -28,17 +28,22 @@ def are_crossed_mates(letters, value):
     return all([abs(letters[mate]) == abs(letters[place]) for place, mate in enumerate(value)])
 
 
-def points_joined(letters, mates):
-    """The pairs of points that the mates join; the point behind the last place is 0."""
+def points_joined(letters, place, mate):
+    """The two pairs of points that two mates join; the point behind the last place is 0."""
     many = len(letters)
+    behind, mate_behind = (place + 1) % many, (mate + 1) % many
+    if letters[place] == letters[mate]:
+        return [(place, mate), (behind, mate_behind)]
+    return [(place, mate_behind), (behind, mate)]
+
+
+def points_in_corners(letters, mates):
+    """The points, begins of letters, in classes of those that are joined, also by way of others."""
     pairs = []
-    for place, mate in [(place, mate) for place, mate in enumerate(mates) if place < mate]:
-        behind, mate_behind = place + 1, (mate + 1) % many
-        if letters[place] == letters[mate]:
-            pairs.extend([(place, mate), (behind, mate_behind)])
-        else:
-            pairs.extend([(place, mate_behind), (behind, mate)])
-    return pairs
+    for place, mate in enumerate(mates):
+        if place < mate:
+            pairs.extend(points_joined(letters, place, mate))
+    return joined(len(letters), pairs)
 
 
 def squares_told(bands, corners, has_alike):
@@ -62,7 +67,7 @@ class CrossSewing:
         self.word = word
         self.mates = tuple(mates)
         self.alike = tuple([place for place, mate in enumerate(mates) if letters[mate] == letters[place]])
-        self.corners = joined(word.length, points_joined(letters, mates))
+        self.corners = points_in_corners(letters, mates)
         self.squares = squares_told(word.length // 2, len(self.corners), len(self.alike) > 0)
 
     def __eq__(self, other):
