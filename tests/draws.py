@@ -53,6 +53,13 @@ class Draws:
                 mates[mates[place]] = place
         return mates
 
+    def crossed(self, most):
+        """Letters with at most so many bands, and mates of a crossed sewing of them; many have none alike."""
+        letters = self.even(1 + self.below(most), 1 + self.below(4))
+        if self.below(3) == 0:
+            letters = self.balanced(1 + self.below(most), 8)
+        return letters, self.crossed_mates(letters)
+
     def rims(self, words, bands, kinds):
         """Rims of so many words, with at least as many letters as words."""
         letters = self.balanced(bands, kinds)

@@ -74,7 +74,8 @@ class OfRounds(Case):
                 (Sewing(rims("a a' / a a'"), [1, 0, 3, 2]), rims("a a' / a a'"), [0, 0]),
                 (Sewing(rims("a a' a / a'"), [1, 0, 3, 2]), rims("a / a'"), [0, 1])):
             self.told(Misfit("rounds"), bag_of_rounds, sewing, made, words)
-        self.assertEqual(bag_of_rounds(Sewing(rims("a a / a' / a'"), [2, 3, 0, 1]), rims("a / a'"), [0, 1, 1]).copies, 2)
+        three = Sewing(rims("a a / a' / a'"), [2, 3, 0, 1])
+        self.assertEqual(bag_of_rounds(three, rims("a / a'"), [0, 1, 1]).copies, 2)
 
     def test_errors_in_order(self):
         one = Sewing(LOOP, [2, 3, 0, 1])

@@ -47,8 +47,8 @@ class Shown(Case):
             for number in (1, -1, 2, False, 0.0, "0", None, (0,), 10 ** 90):
                 self.assertIs(shows(TWO, paper(number, MATES)), False)
             for mates in ((2, 3, 0, 1), (3, 2, 1), (3, 2, 1, 0, 0), (3, 2, 1, False), (3, 2, True, 0), (3.0, 2, 1, 0),
-                          None, (), "3210", (3, 2, 1, -4), (-1, 2, 1, 0), (3, 2, 1, 10 ** 90), 5, (MATES,), (1, 0, 3, 2),
-                          (0, 1, 2, 3), Sewing(TWO, MATES)):
+                          None, (), "3210", (3, 2, 1, -4), (-1, 2, 1, 0), (3, 2, 1, 10 ** 90), 5, (MATES,),
+                          (1, 0, 3, 2), (0, 1, 2, 3), Sewing(TWO, MATES)):
                 self.assertIs(shows(TWO, paper(0, mates)), False)
             self.assertIs(shows(rims("a / a'"), paper(0, (1, False))), False)
             self.assertIs(shows(rims("a / a'"), paper(0, (True, 0))), False)

@@ -45,7 +45,8 @@ class ShowsSquares(Case):
     def test_parts_bent(self):
         for number in (0, 1, 3, -2, True, 2.0, "2", None, (2,), 10 ** 90):
             self.assertIs(shows_squares(RING, Squares(number, RING, MATES)), False)
-        for ring in (RING.turned(1), RING.contrary(), EMPTY, None, RING.letters, str(RING), CrossSewing(RING, MATES), 1):
+        for ring in (RING.turned(1), RING.contrary(), EMPTY, None, RING.letters, str(RING), 1,
+                     CrossSewing(RING, MATES)):
             self.assertIs(shows_squares(RING, Squares(2, ring, MATES)), False)
         for mates in ((3, 2, 1, 0), (2, 3, 0), (2, 3, 0, 1, 4), (2, 3, 0, True), (2, 3, False, 1), (2.0, 3, 0, 1), None,
                       (), "2301", (2, 3, 0, -3), (2, 3, 0, 10 ** 90), 5, (MATES,), (0, 1, 2, 3), (2, 1, 0, 3),
@@ -53,8 +54,9 @@ class ShowsSquares(Case):
             self.assertIs(shows_squares(RING, Squares(2, RING, mates)), False)
         # One crossed sewing has one square, the others two.
         four = Word([1, 1, 1, 1])
-        for mates, answer in (((2, 3, 0, 1), True), ((1, 0, 3, 2), False), ((3, 2, 1, 0), False), ((0, 1, 2, 3), False)):
-            self.assertIs(shows_squares(four, Squares(1, four, mates)), answer)
+        self.assertIs(shows_squares(four, Squares(1, four, (2, 3, 0, 1))), True)
+        for mates in ((1, 0, 3, 2), (3, 2, 1, 0), (0, 1, 2, 3)):
+            self.assertIs(shows_squares(four, Squares(1, four, mates)), False)
         for value in (Squares(True, four, (2, 3, 0, 1)), Squares(1, four, (2, 3, 0, True))):
             self.assertIs(shows_squares(four, value), False)
         for value in (Squares(False, EMPTY, ()), Squares(0, (), ()), Squares(0, EMPTY, (0,)), Squares(1, EMPTY, ()),
@@ -145,8 +147,8 @@ class ShowsSquareSpelling(Case):
         class Mine(SquareSpelling):
             pass
         stranger = type("SquareSpelling", (Paper,), {})("squarespelling", ())
-        for value in WRONG + (stranger, Mine([]), Paper("squarespelling", ()), Denial("squarespelling", ()), Spelling([]),
-                              Squares(0, EMPTY, ()), 1, A, [A, A], Odd(1), CrossSewing(RING, MATES)):
+        for value in WRONG + (stranger, Mine([]), Paper("squarespelling", ()), Denial("squarespelling", ()),
+                              Spelling([]), Squares(0, EMPTY, ()), 1, A, [A, A], Odd(1), CrossSewing(RING, MATES)):
             self.assertIs(shows_square_spelling(EMPTY, value), False)
 
     def test_errors_for_any_value(self):

@@ -32,11 +32,8 @@ class Made(Case):
     def test_drawn_ones_by_joined_points_and_bands_across(self):
         draws = Draws(131)
         seen = set()
-        for count in range(300):
-            letters = draws.even(1 + draws.below(8), 1 + draws.below(4))
-            if count % 3 == 0:
-                letters = draws.balanced(1 + draws.below(8), 8)
-            mates = draws.crossed_mates(letters)
+        for _ in range(300):
+            letters, mates = draws.crossed(8)
             sewing = CrossSewing(Word(letters), mates)
             self.assertEqual([list(corner) for corner in sewing.corners], sewn.crossed_corners(letters, mates))
             self.assertEqual(sewing.alike, tuple(at for at in range(len(letters)) if letters[at] == letters[mates[at]]))
@@ -58,9 +55,10 @@ class Made(Case):
         one = CrossSewing(RING, [2, 3, 0, 1])
         self.assertTrue(one == CrossSewing(mates=(2, 3, 0, 1), word=Word([1, 2, 1, -2])))
         four = Word([1, 1, 1, 1])
-        for here, other in ((CrossSewing(four, [1, 0, 3, 2]), CrossSewing(four, [2, 3, 0, 1])), (one, None), (one, RING),
-                            (one, CrossSewing(Word.read("a b a b"), [2, 3, 0, 1])), (one, (2, 3, 0, 1)),
-                            (CrossSewing(Word.read("a b a' b'"), [2, 3, 0, 1]), Sewing(rims("a b a' b'"), [2, 3, 0, 1]))):
+        crossed, plain = CrossSewing(Word.read("a b a' b'"), [2, 3, 0, 1]), Sewing(rims("a b a' b'"), [2, 3, 0, 1])
+        for here, other in ((CrossSewing(four, [1, 0, 3, 2]), CrossSewing(four, [2, 3, 0, 1])), (one, None),
+                            (one, RING), (one, CrossSewing(Word.read("a b a b"), [2, 3, 0, 1])), (one, (2, 3, 0, 1)),
+                            (crossed, plain)):
             self.assertIs(here == other, False)
             self.assertIs(other == here, False)
             self.assertIs(here != other, True)

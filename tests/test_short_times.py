@@ -68,7 +68,8 @@ class ShortTimes(unittest.TestCase):
             self.quick(lambda: call(MOST_CROSSED))
         self.assertEqual(len(all_crossed(MOST_CROSSED)), 945)
         for call in (lambda: shows_squares(MOST_CROSSED, None), lambda: square_product(LONG * 6),
-                     lambda: shows_square_spelling(A, SquareSpelling(LONG * 6)), lambda: many_crossed(Word([1, -1] * 250)),
+                     lambda: shows_square_spelling(A, SquareSpelling(LONG * 6)),
+                     lambda: many_crossed(Word([1, -1] * 250)),
                      lambda: squared_ahead(LONG[0], LONG[1], LONG[0]), lambda: as_square(LONG[0])):
             self.quick(call)
 

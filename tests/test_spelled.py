@@ -35,7 +35,8 @@ class OfSewings(Checked):
         self.assertEqual(seen & {0, 1, 2, 3, 4, 5}, {0, 1, 2, 3, 4, 5})
 
     def test_all_sewings_of_some_rings(self):
-        for text in ("a b a' b' a b a' b'", "a a a a' a' a'", "a a' b b' a a' b b'", "a b c a' b' c'", "a a b a' b' a'"):
+        for text in ("a b a' b' a b a' b'", "a a a a' a' a'", "a a' b b' a a' b b'", "a b c a' b' c'",
+                     "a a b a' b' a'"):
             for sewing in all_sewings(rims(text)):
                 self.spells(spelled(sewing=sewing), Word.read(text), sewing.handles)
 

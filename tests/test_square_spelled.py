@@ -72,11 +72,8 @@ class OfSewings(Checked):
     def test_by_as_many_words_as_squares(self):
         draws = Draws(138)
         seen = set()
-        for count in range(300):
-            letters = draws.even(1 + draws.below(8), 1 + draws.below(4))
-            if count % 3 == 0:
-                letters = draws.balanced(1 + draws.below(8), 8)
-            mates = draws.crossed_mates(letters)
+        for _ in range(300):
+            letters, mates = draws.crossed(8)
             sewing = CrossSewing(Word(letters), mates)
             self.spells(square_spelled(sewing), Word(letters), sewn.crossed_squares(letters, mates))
             self.assertEqual(square_spelled(CrossSewing(Word(letters), mates)), square_spelled(sewing))

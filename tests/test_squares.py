@@ -75,7 +75,8 @@ class MostSquares(Case):
 class AsSquare(Case):
     def test_roots_of_squares(self):
         for text, answer in (("a a", "a"), ("a b a b", "a b"), ("b' a a b", "b' a b"), ("-", "-"), ("a a'", "-"),
-                             ("a a a a", "a a"), ("c a b a b c'", "c a b c'"), ("a b b' a", "a"), ("b a' a' b'", "b a' b'"),
+                             ("a a a a", "a a"), ("c a b a b c'", "c a b c'"), ("a b b' a", "a"),
+                             ("b a' a' b'", "b a' b'"),
                              ("a b a b b' a' b' a'", "-"), ("c c' a a", "a")):
             found = as_square(Word.read(text))
             self.assertIs(type(found), Word)

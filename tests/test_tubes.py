@@ -33,7 +33,8 @@ class Tubes(Case):
 
     def test_no_tubes(self):
         for one, other in (("a", "a"), ("a", "b'"), ("a b", "a b"), ("a a", "a'"), ("a", "a' a'"),
-                           ("a b a' b'", "a b a' b'"), ("a b c", "a' b' c'"), ("a b c", "a b c"), ("a b b", "a' a' b'")):
+                           ("a b a' b'", "a b a' b'"), ("a b c", "a' b' c'"), ("a b c", "a b c"),
+                           ("a b b", "a' a' b'")):
             found = tube(*words(one, other))
             self.assertEqual(found, NoTube())
             self.assertIs(bool(found), False)
@@ -86,7 +87,8 @@ class TwoByTwo(Case):
                 ("a / b / b' / a'", ((0, 3, 0), (1, 2, 0))), ("a' / b / a / b'", ((0, 2, 0), (1, 3, 0))),
                 ("a / b / b' a'", None), ("a b a' b'", None), ("a b / a' b'", ((0, 1, 1),)),
                 ("a a / a' / a'", None), ("a b a' b' / a b a' b'", None), ("a b a' b' / b a b' a'", ((0, 1, 0),)),
-                ("a a b / a' b' a'", ((0, 1, 2),)), ("a / a' / b a b' a'", None), ("a b c / c b a / a' b' c' c' b' a'", None),
+                ("a a b / a' b' a'", ((0, 1, 2),)), ("a / a' / b a b' a'", None),
+                ("a b c / c b a / a' b' c' c' b' a'", None),
                 ("a b c / a c b / a' b' c' / a' c' b'", ((0, 3, 2), (1, 2, 2)))):
             self.assertEqual(tubes_of(rims(text)), answer)
         self.assertEqual(tubes_of(rims=rims("a / a'")), ((0, 1, 0),))
