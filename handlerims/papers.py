@@ -10,11 +10,9 @@ def fixed(value):
     return value
 
 
-def is_same(one, other):
-    """Whether two papers are of the same class and tell the same."""
-    if one.__class__.__name__ != other.__class__.__name__:
-        return False
-    return one.word == other.word and one.parts == other.parts
+def are_called_alike(one, other):
+    """Whether the classes that made the two have one name."""
+    return one.__class__.__name__ == other.__class__.__name__
 
 
 def is_called(value, name):
@@ -30,7 +28,9 @@ class Paper:
         self.parts = fixed(parts)
 
     def __eq__(self, other):
-        return isinstance(other, Paper) and is_same(self, other)
+        if not isinstance(other, Paper) or not are_called_alike(self, other):
+            return False
+        return self.word == other.word and self.parts == other.parts
 
     def __bool__(self):
         return True
@@ -43,7 +43,9 @@ class Denial(Paper):
         Paper.__init__(self, word, *parts)
 
     def __eq__(self, other):
-        return isinstance(other, Denial) and is_same(self, other)
+        if not isinstance(other, Denial) or not are_called_alike(self, other):
+            return False
+        return self.word == other.word and self.parts == other.parts
 
     def __bool__(self):
         return False

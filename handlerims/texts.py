@@ -1,7 +1,9 @@
-"""Letters as items of texts."""
+"""Letters and integers as items of texts."""
 
-from handlerims.checks import ALPHABET
+from handlerims.checks import ALPHABET, DIGITS
 from handlerims.errors import BadText
+
+MOST_DIGITS = 60
 
 
 def letter_text(letter):
@@ -18,6 +20,27 @@ def letter_of(item):
     if len(item) == 1:
         return kind
     return -kind if item[1:] == "'" else None
+
+
+def integer_text(number):
+    """The item that tells the integer, however many digits it has."""
+    # Python refuses to write an integer of some thousand digits at once.
+    parts = []
+    left = abs(number)
+    while left >= 10 ** 60:
+        parts.append(str(left % 10 ** 60).zfill(60))
+        left = left // 10 ** 60
+    parts.append(str(left))
+    return ("-" if number < 0 else "") + "".join(parts[::-1])
+
+
+def integer_of(item):
+    """The integer that the item tells, None if it tells none."""
+    digits = item[1:] if item.startswith("-") else item
+    if not 1 <= len(digits) <= MOST_DIGITS or not all([sign in DIGITS for sign in digits]):
+        return None
+    number = int(item)
+    return number if str(number) == item else None
 
 
 def items_of(text):

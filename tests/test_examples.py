@@ -31,6 +31,12 @@ def examples():
     return rows
 
 
+def kept_by(error):
+    """What an error keeps, errors among that told by their class and by what they keep themselves."""
+    return {name: (type(kept), kept_by(kept)) if isinstance(kept, HandleError) else kept
+            for name, kept in vars(error).items()}
+
+
 class Examples(unittest.TestCase):
     def setUp(self):
         self.names = {}
@@ -42,11 +48,11 @@ class Examples(unittest.TestCase):
         with self.assertRaises(HandleError) as caught:
             eval(typed, self.names)
         self.assertIs(type(caught.exception), type(error))
-        self.assertEqual(vars(caught.exception), vars(error))
+        self.assertEqual(kept_by(caught.exception), kept_by(error))
 
     def test_each_example_answers_as_told(self):
         rows = examples()
-        self.assertEqual(len(rows), 96)
+        self.assertEqual(len(rows), 112)
         for number, typed, answer in rows:
             with self.subTest(line=number):
                 if answer is None:

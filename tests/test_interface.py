@@ -41,6 +41,14 @@ FUNCTIONS = {
     "bags": {"is_bag": "rims walks", "bag_of": "sewing"},
     "bag_changes": {"added": "one other", "times": "bag number", "lowest_bag": "bag", "parted_walks": "bag"},
     "built": {"bag_of_rounds": "sewing rims words", "built": "bag"},
+    "check_bags": {"shows_built": "bag value"},
+    "walks": {"steps_of": "rims", "simple_walks": "rims"},
+    "weights": {"lightest": "rims numbers", "weight_bound": "rims weights"},
+    "price": {"price": "rims", "price_word": "word", "handles_at_least": "top bottom rounds"},
+    "check_price": {"shows_weights": "rims value", "shows_price": "rims value"},
+    "weighings": {"slope": "pairs", "value_of": "weighing word", "value_round": "weighing rims",
+                  "walk_values": "weighing bag"},
+    "mistakes": {"three_of": "weighing x y z", "mistake_of": "weighing kinds", "bar": "weighing rims"},
     "cutting": {"banded": "one other kind", "banded_sewing": "sewing kind", "unbanded": "sewing place",
                 "cut": "sewing place other"},
 }
@@ -66,6 +74,13 @@ CLASSES = {
     "square_spelled": {"SquareSpelling": {"__init__": "self words"}},
     "bags": {"Bag": {"__init__": "self rims walks", "__eq__": "self other"}},
     "built": {"Built": {"__init__": "self sewing words"}},
+    "weights": {"Weights": {"__init__": "self worths steps by"}},
+    "price": {"Price": {"__init__": "self top bottom walks weights"}},
+    "weighings": {"Weighing": {"__init__": "self rows", "__eq__": "self other", "__str__": "self",
+                               "at": "self first second", "times": "self number", "added": "self other",
+                               "read": "text"}},
+    "mistakes": {"Mistake": {"__init__": "self number three"}, "AtLeast": {"__init__": "self top bottom"},
+                 "NoBar": {"__init__": "self"}},
 }
 
 

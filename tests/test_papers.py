@@ -5,13 +5,16 @@ from handlerims.built import Built
 from handlerims.cheapest import Cheapest, InOne
 from handlerims.exchanged import Way
 from handlerims.handles import Handles
+from handlerims.mistakes import AtLeast, Mistake, NoBar
 from handlerims.papers import Denial, Paper, fixed
 from handlerims.parted import NotParted, Parted
+from handlerims.price import Price
 from handlerims.rings import NoRoot, Root
 from handlerims.spellings import Spelling
 from handlerims.square_spelled import SquareSpelling
 from handlerims.squares import Odd, Squares
 from handlerims.tubes import NoTube, Tube
+from handlerims.weights import Weights
 from handlerims.words import Word
 from tests.cases import WRONG
 
@@ -20,8 +23,10 @@ CLASSES = ((Root, "root", ("root", "here", "there")), (NoRoot, "noroot", ()), (W
            (NotParted, "notparted", ()), (Spelling, "spelling", ("pairs",)), (Cheapest, "cheapest", ("cost", "mates")),
            (InOne, "inone", ("handles", "mates")), (Tube, "tube", ("turn",)), (NoTube, "notube", ()),
            (Squares, "squares", ("number", "ring", "mates")), (Odd, "odd", ("kind",)),
-           (SquareSpelling, "squarespelling", ("words",)), (Built, "built", ("sewing", "words")))
-DENIALS = ("noroot", "notparted", "notube", "odd")
+           (SquareSpelling, "squarespelling", ("words",)), (Built, "built", ("sewing", "words")),
+           (Weights, "weights", ("worths", "steps", "by")), (Price, "price", ("top", "bottom", "walks", "weights")),
+           (Mistake, "mistake", ("number", "three")), (AtLeast, "atleast", ("top", "bottom")), (NoBar, "nobar", ()))
+DENIALS = ("noroot", "notparted", "notube", "odd", "nobar")
 
 
 class Papers(unittest.TestCase):

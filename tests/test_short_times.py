@@ -7,12 +7,15 @@ from handlerims.bag_changes import parted_walks, times
 from handlerims.bags import Bag, bag_of
 from handlerims.built import built
 from handlerims.check_cheapest import shows_cheapest, shows_in_one
+from handlerims.check_price import shows_price, shows_weights
 from handlerims.check_spellings import shows_fewest, shows_spelling
 from handlerims.check_squares import shows_square_spelling, shows_squares
 from handlerims.cheapest import cheapest, in_one
 from handlerims.crossed import all_crossed, crossed_census, many_crossed
 from handlerims.errors import TooMany
 from handlerims.handles import handles_of
+from handlerims.mistakes import bar, mistake_of
+from handlerims.price import Price, price
 from handlerims.rims import Rims
 from handlerims.sewings import Sewing, all_sewings
 from handlerims.spelled import rounds_spelled, spelled, spelled_word
@@ -21,6 +24,9 @@ from handlerims.square_spelled import SquareSpelling, square_product, square_spe
 from handlerims.squares import as_square, squares_of
 from handlerims.tightened import sewing_of, tightened
 from handlerims.tubes import tube
+from handlerims.walks import simple_walks, steps_of
+from handlerims.weighings import Weighing, slope, walk_values
+from handlerims.weights import Weights, lightest, weight_bound
 from handlerims.words import Word
 
 A, B = Word([1]), Word([2])
@@ -29,6 +35,8 @@ MOST = Word([1] * 6 + [2, 3, 4, 5, 6, 7] + [-1] * 6 + [-2, -3, -4, -5, -6, -7])
 MOST_CROSSED = Word([1, 2, 3] * 4 + [1] * 4)
 LONG = [Word([1] * 500), Word([2] * 500)]
 LOOP = Rims([Word([1, 2, -1, -2])])
+SLOW_PRICES = ("a a / b b / a / b' a' b' a' a'", "b a' b' b' a b b a' b' a", "c c c / b' c' / b c' b / c' b'",
+               "a b' a b' a b / a' a' a' / b", "c / c c b' a' c' c' c' a b", "b / b' b' a' a' b b a a b'")
 
 
 class ShortTimes(unittest.TestCase):
@@ -80,4 +88,40 @@ class ShortTimes(unittest.TestCase):
         for call in (lambda: bag_of(Sewing(large, list(range(23, -1, -1)))), lambda: built(bag),
                      lambda: Bag(LOOP, long), lambda: parted_walks(Bag(LOOP, long)), lambda: times(bag, 999999),
                      lambda: built(times(bag, 999999))):
+            self.quick(call)
+
+    def test_of_walks_and_weights(self):
+        large = Rims([Word([1] * 12 + [-1] * 12)])
+        numbers = [999999 - 7 * at for at in range(288)]
+        weights = Weights([999999] * 24, numbers, 7)
+        below = [-999999] * 288
+        for call in (lambda: steps_of(large), lambda: lightest(large, numbers), lambda: lightest(large, below),
+                     lambda: shows_weights(large, weights), lambda: weight_bound(large, weights),
+                     lambda: simple_walks(Rims.read("a a a a / a' a' a' a'")),
+                     lambda: simple_walks(Rims.read("a a a a a / a' a' a' a' a'")),
+                     lambda: simple_walks(Rims.read("a a' a a' a a' a a' a a'"))):
+            self.quick(call)
+
+    def test_of_many_prices(self):
+        # The most walks that rims shortened round have within the bounds, or nearly so, and most turns to the price.
+        slow = [Rims.read(text) for text in SLOW_PRICES]
+
+        def all_prices():
+            for made in slow * 12:
+                price(made)
+        self.quick(all_prices)
+        half = Rims([Word([1] * 12), Word([-1] * 12)])
+        walks = [((0, 12), 999999), ((1, 23), 999999)]
+        self.quick(lambda: shows_price(half, Price(0, 1, walks, Weights([1] * 24, [1] * 288, 2))))
+
+    def test_of_weighings(self):
+        letters = [sign * kind for kind in range(1, 27) for sign in (1, -1)]
+        flat = slope([(letter, 999999 - 37 * letter ** 2) for letter in letters])
+        text = str(flat)
+        self.assertLess(len(text), 20000)
+        long = Bag(LOOP, [([3, 2, 1, 0] * 2000, 1)])
+        made = Rims([Word(list(range(1, 13)) + [-kind for kind in range(1, 13)])])
+        for call in (lambda: mistake_of(flat, list(range(1, 27))), lambda: Weighing.read(text),
+                     lambda: Weighing(flat.rows), lambda: flat.added(flat.times(3)), lambda: walk_values(flat, long),
+                     lambda: bar(flat, made)):
             self.quick(call)
