@@ -15,9 +15,9 @@ def lines_of_examples():
 
 
 def modules():
-    """The modules of the package under which examples stand, and that of the errors."""
+    """The modules of the package under which examples stand, and those that have none of their own."""
     names = [line[len("# handlerims/"):-len(".py")] for line in lines_of_examples() if line.startswith("# ")]
-    return [importlib.import_module("handlerims." + name) for name in ["errors"] + names]
+    return [importlib.import_module("handlerims." + name) for name in ["errors", "shelves", "desk_deeds"] + names]
 
 
 def examples():
@@ -52,7 +52,7 @@ class Examples(unittest.TestCase):
 
     def test_each_example_answers_as_told(self):
         rows = examples()
-        self.assertEqual(len(rows), 112)
+        self.assertEqual(len(rows), 131)
         for number, typed, answer in rows:
             with self.subTest(line=number):
                 if answer is None:

@@ -49,6 +49,13 @@ FUNCTIONS = {
     "weighings": {"slope": "pairs", "value_of": "weighing word", "value_round": "weighing rims",
                   "walk_values": "weighing bag"},
     "mistakes": {"three_of": "weighing x y z", "mistake_of": "weighing kinds", "bar": "weighing rims"},
+    "turnings": {"turning": "order", "best_turning": "rims"},
+    "check_weighings": {"shows_mistake": "weighing kinds value", "shows_bar": "weighing rims value",
+                        "shows_turned": "rims value"},
+    "desk_lines": {"read_line": "line"},
+    "desk_deeds": {"changed": "shelf line"},
+    "desk_asks": {"answer_of": "shelf line"},
+    "stories": {"replay": "lines", "parting": "one other", "merged": "one other"},
     "cutting": {"banded": "one other kind", "banded_sewing": "sewing kind", "unbanded": "sewing place",
                 "cut": "sewing place other"},
 }
@@ -81,6 +88,12 @@ CLASSES = {
                                "read": "text"}},
     "mistakes": {"Mistake": {"__init__": "self number three"}, "AtLeast": {"__init__": "self top bottom"},
                  "NoBar": {"__init__": "self"}},
+    "turnings": {"Turned": {"__init__": "self order value"}},
+    "shelves": {"Shelf": {"__init__": "self things", "__eq__": "self other", "word": "self name", "rims": "self name",
+                          "weighing": "self name"}},
+    "desk": {"Desk": {"__init__": "self", "__eq__": "self other", "__len__": "self", "__contains__": "self x",
+                      "__call__": "self line", "told": "self *lines", "tried": "self *lines", "undo": "self",
+                      "redo": "self", "twin": "self"}},
 }
 
 

@@ -14,6 +14,7 @@ from handlerims.spellings import Spelling
 from handlerims.square_spelled import SquareSpelling
 from handlerims.squares import Odd, Squares
 from handlerims.tubes import NoTube, Tube
+from handlerims.turnings import Turned
 from handlerims.weights import Weights
 from handlerims.words import Word
 from tests.cases import WRONG
@@ -25,7 +26,8 @@ CLASSES = ((Root, "root", ("root", "here", "there")), (NoRoot, "noroot", ()), (W
            (Squares, "squares", ("number", "ring", "mates")), (Odd, "odd", ("kind",)),
            (SquareSpelling, "squarespelling", ("words",)), (Built, "built", ("sewing", "words")),
            (Weights, "weights", ("worths", "steps", "by")), (Price, "price", ("top", "bottom", "walks", "weights")),
-           (Mistake, "mistake", ("number", "three")), (AtLeast, "atleast", ("top", "bottom")), (NoBar, "nobar", ()))
+           (Mistake, "mistake", ("number", "three")), (AtLeast, "atleast", ("top", "bottom")), (NoBar, "nobar", ()),
+           (Turned, "turned", ("order", "value")))
 DENIALS = ("noroot", "notparted", "notube", "odd", "nobar")
 
 

@@ -10,8 +10,10 @@ from handlerims.check_cheapest import shows_cheapest, shows_in_one
 from handlerims.check_price import shows_price, shows_weights
 from handlerims.check_spellings import shows_fewest, shows_spelling
 from handlerims.check_squares import shows_square_spelling, shows_squares
+from handlerims.check_weighings import shows_mistake, shows_turned
 from handlerims.cheapest import cheapest, in_one
 from handlerims.crossed import all_crossed, crossed_census, many_crossed
+from handlerims.desk import Desk
 from handlerims.errors import TooMany
 from handlerims.handles import handles_of
 from handlerims.mistakes import bar, mistake_of
@@ -23,7 +25,9 @@ from handlerims.spellings import Spelling, moved, product_of, put_in, undone
 from handlerims.square_spelled import SquareSpelling, square_product, square_spelled_word, squared_ahead
 from handlerims.squares import as_square, squares_of
 from handlerims.tightened import sewing_of, tightened
+from handlerims.stories import merged, replay
 from handlerims.tubes import tube
+from handlerims.turnings import Turned, best_turning, turning
 from handlerims.walks import simple_walks, steps_of
 from handlerims.weighings import Weighing, slope, walk_values
 from handlerims.weights import Weights, lightest, weight_bound
@@ -125,3 +129,43 @@ class ShortTimes(unittest.TestCase):
                      lambda: Weighing(flat.rows), lambda: flat.added(flat.times(3)), lambda: walk_values(flat, long),
                      lambda: bar(flat, made)):
             self.quick(call)
+
+    def test_of_turnings(self):
+        made = Rims([Word([1, 2, 3] * 4 + [-1, -2, -3] * 4)])
+        order = [sign * kind for kind in range(1, 14) for sign in (1, -1)]
+
+        def many_times():
+            for _ in range(20):
+                best_turning(made)
+                shows_turned(made, Turned((1, 2, 3, -1, -2, -3), 0))
+                turning(order)
+        self.quick(many_times)
+        self.quick(lambda: shows_mistake(turning(order), list(range(1, 27)), None))
+
+    def test_of_a_desk_with_long_rows_of_lines(self):
+        lines = ["word n" + str(at) + " a b" for at in range(1200)] + ["turn n" + str(at) + " 1" for at in range(300)]
+        desk = Desk()
+
+        def one_by_one():
+            for line in lines:
+                desk(line)
+            for _ in lines:
+                desk.undo()
+            for _ in lines:
+                desk.redo()
+        self.quick(one_by_one)
+        self.quick(lambda: desk.told(*["names", "show n1199", "drop n0"]))
+        self.quick(lambda: replay(lines))
+        self.quick(lambda: merged(desk, replay(lines)))
+
+    def test_of_asks_within_the_bounds(self):
+        desk = Desk()
+        kinds = list(range(1, 25))
+        forty_eight = Word(kinds + [-kind for kind in kinds])
+        desk.told("word m " + str(MOST), "rims r m", "word c " + str(MOST_CROSSED), "weigh v a b c a' b' c'",
+                  "word h " + str(forty_eight), "word long " + str(Word([1] * 500)),
+                  "word p b a' b' b' a b b a' b' a", "rims q p")
+        self.assertEqual([desk("price q"), desk("parted h"), desk("handles m")], ["1/1", "notparted", "3"])
+        for line in ("census r", "cheapest r", "handles m", "spelled m", "parted h", "squares c", "price q",
+                     "value v r", "bar v q", "root long", "tube long long", "show long"):
+            self.quick(lambda: desk(line))
