@@ -46,8 +46,9 @@ class Equations:
     def begin(self, columns):
         """Solve as many rows as can be, for numbers of these columns ahead of others; the rest tell nothing more."""
         for column in list(columns) + list(range(self.numbers)):
+            # A column that is at the head of a row stands in no other one.
             free = [at for at, head in enumerate(self.heads) if head is None and self.rows[at][column] != 0]
-            if free and column not in self.heads:
+            if free:
                 self.solve(free[0], column)
         self.rows = [row for head, row in zip(self.heads, self.rows) if head is not None]
         self.heads = [head for head in self.heads if head is not None]

@@ -48,3 +48,13 @@ def items_of(text):
     if not isinstance(text, str):
         raise BadText(0, 0)
     return text.split(" ")
+
+
+def items_told(text):
+    """The items of a text, none for a lone `-`, behind which no item can stand."""
+    items = items_of(text)
+    if items[0] != "-":
+        return items
+    if len(items) > 1:
+        raise BadText(0, 1)
+    return []

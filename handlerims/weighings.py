@@ -6,7 +6,7 @@ from handlerims.errors import BadText, BadWeighing, Twice
 from handlerims.letters import kinds_of
 from handlerims.needs import need_integer, need_letter
 from handlerims.rims import need_rims
-from handlerims.texts import integer_of, integer_text, items_of, letter_of, letter_text
+from handlerims.texts import integer_of, integer_text, items_told, letter_of, letter_text
 from handlerims.words import need_word
 
 # The greatest stretch that is lesser than its contrary: y z'.
@@ -95,12 +95,8 @@ class Weighing:
     @staticmethod
     def read(text):
         """The Weighing whose text this is."""
-        items = items_of(text)
-        if items[0] == "-":
-            if len(items) > 1:
-                raise BadText(0, 1)
-            return Weighing([])
-        return Weighing(rows_of(items))
+        items = items_told(text)
+        return Weighing(rows_of(items) if items else [])
 
 
 def last_behind(letter):

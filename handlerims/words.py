@@ -5,7 +5,7 @@ from handlerims.errors import BadText, BadWord, TooMany
 from handlerims.letters import (contrary_letters, exchange_letters, kinds_of, rounded_letters, shortened_letters,
                                 turned_letters)
 from handlerims.needs import need_integer, need_letter
-from handlerims.texts import items_of, letter_of, letter_text
+from handlerims.texts import items_told, letter_of, letter_text
 
 MOST_LETTERS = 500
 
@@ -105,12 +105,7 @@ class Word:
     @staticmethod
     def read(text):
         """The word whose text this is."""
-        items = items_of(text)
-        if items[0] == "-":
-            if len(items) > 1:
-                raise BadText(0, 1)
-            return Word([])
-        letters = [letter_of(item) for item in items]
+        letters = [letter_of(item) for item in items_told(text)]
         for at, letter in enumerate(letters):
             if letter is None or at == MOST_LETTERS:
                 raise BadText(0, at)

@@ -51,6 +51,7 @@ class Papers(unittest.TestCase):
         for one, other in ((Paper("note"), Paper("not")), (Paper("note"), Paper("note", 1)), (Paper("n"), Denial("n")),
                            (Denial("n"), Paper("n")), (Paper("n", 1), Paper("n", 2)), (NoRoot(), NotParted()),
                            (Denial("noroot"), NoRoot()), (NoRoot(), Denial("noroot")), (Paper("way", ()), Way(())),
+                           (Denial("n"), Denial("m")), (Denial("n", 1), Denial("n", 2)), (Denial("n"), Denial("n", 1)),
                            (Way(()), Paper("way", ())), (Paper("n"), "n"), (Paper("n"), None), (Way(()), ((),))):
             self.assertIs(one == other, False)
             self.assertIs(one != other, True)

@@ -1,6 +1,6 @@
 from handlerims.errors import BadRims, TooMany
 from handlerims.rims import Rims
-from handlerims.walks import simple_walks, steps_of
+from handlerims.walks import simple_walks, steps_of, walks_within
 from handlerims.words import Word
 from tests.cases import Case, Odd, rims
 from tests.draws import Draws
@@ -91,6 +91,12 @@ class Simple(Case):
         self.assertTrue({424, 425, 426, 501} & numbers)
         self.assertIn(501, numbers)
         self.assertGreater(len(numbers), 20)
+
+    def test_just_so_many_walks(self):
+        # No rims of ten letters have just 500 walks, or 501: fewer are asked for.
+        for text, many in (("a b a' b'", 1), ("a a b a' a' b'", 6), ("b a' b' b' a b b a' b' a", 145)):
+            self.assertEqual(walks_within(rims(text), many), simple_walks(rims(text)))
+            self.told(TooMany("walks", many - 1), walks_within, rims(text), many - 1)
 
     def test_wrong_rims(self):
         self.wrong_among(simple_walks, lambda value: BadRims("rims"), NO_RIMS)
